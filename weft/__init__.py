@@ -1,0 +1,1 @@
+"""Weft: programs told in prose."""
