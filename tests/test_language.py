@@ -16,6 +16,10 @@ MODULES = {
     "lines": ["read", "write", "is_name", "is_code", "is_prose"],
     "pieces": ["sections", "piece_names", "piece_lines", "uses_of", "users_of", "closure"],
     "tangling": ["length", "tangle", "indent_of", "texts_of"],
+    "weaving": ["weave"],
+    "places": ["occurrences", "first_lines"],
+    "fates": ["untouched", "is_touched", "edited"],
+    "mapping": ["program_fates", "woven_fates", "apply"],
 }
 
 BUILTINS = set("""

@@ -62,9 +62,12 @@ class Reading(WeftTest):
         nearly = [
             "<>", "<", ">", "<<", ">>", "<b", "b>", "< b>", "<b >", "<b> ", "<b>>", "<<b>", "<b>;",
             "  <>", "  <b> ", "  <b", "x<b>", "-<b>", "<b><c>", "<b c>", "><", "(b)", "<b/>",
+            "bcd>", "<bcd", "(bcd>", "<bcd)", "  >bcd>", "  <bcd<",
             "<" + NAME_20 + "a>", "  <" + NAME_20 + "a>",
         ]
-        for text in nearly + [f"<b{sign}b>" for sign in NO_NAME_SIGNS]:
+        nearly += [f"<b{sign}b>" for sign in NO_NAME_SIGNS]
+        nearly += [f"  {sign}<b>" for sign in ALL_SIGNS if sign != " "]
+        for text in nearly:
             with self.subTest(text):
                 self.assertEqual(self.read_behind_head("|" + text), (("code", text),))
 
