@@ -69,7 +69,7 @@ class Applying(WeftTest):
     def test_texts_behind_changed_and_dropped_lines(self):
         self.check({0: ((), DROP, ("q", "r")), 2: ((), DROP, ("y", "z"))},
                    "q", "r", "= a", "|y", "|z", "|  <b>", "|", "", "= b")
-        self.check({5: ((), to("q"), ("r",)), 4: ((), to("y"), ("z", "")) },
+        self.check({5: ((), to("q"), ("r",)), 4: ((), to("y"), ("z", ""))},
                    "p", "= a", "|x", "|  <b>", "|y", "|z", "|", "q", "r", "= b")
 
     def test_kinds(self):
