@@ -20,12 +20,28 @@ MODULES = {
     "places": ["occurrences", "first_lines"],
     "fates": ["untouched", "is_touched", "edited"],
     "mapping": ["program_fates", "woven_fates", "apply"],
+    "merging": ["merge"],
+    "differences": ["least_edits", "cost_of"],
+    "turning": ["rename", "take_out", "put_in", "split", "join", "move_section"],
+    "session": ["Session"],
+}
+
+CLASSES = {
+    "session": {
+        "Session": [
+            "document", "program", "woven", "pieces_made", "edit_program", "edit_woven",
+            "edit_both", "replace_program", "undo", "redo",
+        ],
+    },
 }
 
 BUILTINS = set("""
     len range enumerate zip min max sum abs sorted reversed int str bool bytes list tuple dict set
     isinstance ord repr any all divmod pow ValueError super
 """.split())
+
+# What iterates at once over what ranges, zips and views give.
+ITERATING = set("list tuple dict sorted sum any all min max enumerate zip join".split())
 
 METHODS = set("""
     append clear copy count endswith extend find get index insert isalnum isalpha isdigit islower
@@ -50,6 +66,20 @@ def nodes(kind):
             if isinstance(node, kind)]
 
 
+def parents_and_children(tree):
+    """Return a list of (parent, child) of all nodes of a tree."""
+    return [(node, child) for node in ast.walk(tree) for child in ast.iter_child_nodes(node)]
+
+
+def called_name(node):
+    """Return the name of the function or method that a node calls, or None."""
+    if not isinstance(node, ast.Call):
+        return None
+    if isinstance(node.func, ast.Attribute):
+        return node.func.attr
+    return node.func.id if isinstance(node.func, ast.Name) else None
+
+
 class Language(unittest.TestCase):
     def test_interface_is_defined_where_it_is_listed(self):
         trees = {path.stem: tree for path, _, tree in parsed()}
@@ -59,6 +89,18 @@ class Language(unittest.TestCase):
             for name in names:
                 with self.subTest(module=module, name=name):
                     self.assertIn(name, defined)
+
+    def test_classes_define_the_methods_that_are_listed(self):
+        trees = {path.stem: tree for path, _, tree in parsed()}
+        for module, classes in CLASSES.items():
+            defined = {node.name: node for node in trees[module].body
+                       if isinstance(node, ast.ClassDef)}
+            for name, methods in classes.items():
+                own = [node.name for node in defined[name].body
+                       if isinstance(node, ast.FunctionDef)]
+                for method in methods:
+                    with self.subTest(module=module, name=name, method=method):
+                        self.assertIn(method, own)
 
     def test_folder_holds_plain_files_only(self):
         for path in PACKAGE.iterdir():
@@ -99,9 +141,36 @@ class Language(unittest.TestCase):
             self.assertNotIn(node.id, others, (path, node.lineno))
         for path, node in nodes(ast.arg):
             self.assertNotIn(node.arg, dir(builtins), (path, node.lineno))
+        own = set([method.name for _, node in nodes(ast.ClassDef) for method in node.body
+                   if isinstance(method, ast.FunctionDef)])
         for path, node in nodes(ast.Call):
             if isinstance(node.func, ast.Attribute):
-                self.assertIn(node.func.attr, METHODS, (path, node.lineno))
+                self.assertIn(node.func.attr, METHODS | own, (path, node.lineno))
+
+    def test_ranges_zips_and_views_are_iterated_at_once(self):
+        kinds = ("range", "zip", "enumerate", "reversed", "items", "keys", "values")
+        for path, _, tree in parsed():
+            for parent, node in parents_and_children(tree):
+                name = called_name(node)
+                if name in kinds:
+                    iterated = isinstance(parent, (ast.For, ast.comprehension))
+                    if name == "range" and called_name(parent) == "reversed":
+                        iterated = True
+                    self.assertTrue(iterated or called_name(parent) in ITERATING,
+                                    (path, node.lineno))
+
+    def test_no_local_name_is_that_of_an_import_or_a_function_of_the_file(self):
+        for path, _, tree in parsed():
+            taken = [alias.name for node in tree.body if isinstance(node, ast.ImportFrom)
+                     for alias in node.names]
+            taken += [node.name for node in tree.body
+                      if isinstance(node, (ast.FunctionDef, ast.ClassDef))]
+            self.assertEqual(len(taken), len(set(taken)), path)
+            for node in ast.walk(tree):
+                if isinstance(node, ast.arg):
+                    self.assertNotIn(node.arg, taken, (path, node.lineno))
+                if isinstance(node, ast.Name) and isinstance(node.ctx, ast.Store):
+                    self.assertNotIn(node.id, taken, (path, node.lineno))
 
     def test_no_statement_or_expression_of_a_barred_kind(self):
         barred = (ast.Global, ast.AsyncFunctionDef, ast.Await, ast.Set, ast.SetComp, ast.Div)

@@ -1,12 +1,10 @@
-"""What holds for every document and all edits, tried on many made ones.
+"""What holds for every document and all edits, tried on many made ones."""
 
-The documents come from a random source with fixed seeds, so each run tries the same ones.
-"""
-
-import random
 import unittest
 
-from weft.errors import Apart, MadeLine, Missing, NoPiece, Ring, TooLong, Unfit
+from tests.made import CODE, NAMES, PROSE, documents, some_edits, some_row
+from tests.support import DROP, KEEP, outcome
+from weft.errors import Missing, Ring
 from weft.fates import edited, is_touched, untouched
 from weft.lines import is_code, is_prose, read, write
 from weft.mapping import apply, program_fates, woven_fates
@@ -15,38 +13,10 @@ from weft.places import first_lines, occurrences
 from weft.tangling import indent_of, length, tangle, texts_of
 from weft.weaving import weave
 
-KEEP = ("keep",)
-DROP = ("drop",)
-NAMES = ["a", "b", "c", "d"]
-CODE = ["", "x", " ", "  y", "= a", "|", "<b"]
-PROSE = ["", "p", "    q", "<a>", "[1] a"]
-
-
-def some_document(rng, in_order):
-    """Return a document; in_order rules out rings and references to no piece."""
-    lines = [("prose", rng.choice(PROSE)) for _ in range(rng.randrange(3))]
-    for _ in range(rng.randrange(1, 7)):
-        at = rng.randrange(4)
-        lines.append(("head", NAMES[at]))
-        for _ in range(rng.randrange(4)):
-            usable = NAMES[at + 1:] if in_order else NAMES + ["e"]
-            if usable and rng.random() < 0.5:
-                lines.append(("use", rng.randrange(3), rng.choice(usable)))
-            else:
-                lines.append(("code", rng.choice(CODE)))
-        lines.extend([("prose", rng.choice(PROSE)) for _ in range(rng.randrange(3))])
-    if in_order:
-        lines.extend([("head", name) for name in NAMES])
-    return tuple(lines)
-
-
-def some_texts(rng, texts):
-    return tuple([rng.choice(texts) for _ in range(rng.choice([0, 0, 0, 1, 2]))])
-
 
 def some_edit(rng, texts):
-    change = rng.choice([KEEP, KEEP, DROP, ("text", rng.choice(texts))])
-    return (rng.choice([(), (), some_texts(rng, texts)]), change, some_texts(rng, texts))
+    ahead, change, behind = some_edits(rng, 1, texts)[0]
+    return (rng.choice([(), (), ahead]), change, behind)
 
 
 def some_fates(rng, document):
@@ -57,7 +27,7 @@ def some_fates(rng, document):
         change = rng.choice([KEEP, DROP, ("text", rng.choice(texts))])
         if line[0] in ("head", "use") or change == ("text", line[1]):
             change = KEEP
-        fate = ((), change, some_texts(rng, texts))
+        fate = ((), change, some_row(rng, texts))
         if is_touched(fate) and rng.random() < 0.5:
             fates[at] = fate
     return fates
@@ -80,13 +50,6 @@ def naive_program(document, name, path, active):
     return found
 
 
-def outcome(call, *arguments):
-    try:
-        return call(*arguments)
-    except (NoPiece, Missing, Ring, TooLong, Unfit, Apart, MadeLine) as error:
-        return (type(error), vars(error))
-
-
 def shifted(texts, indentation):
     return tuple([text and " " * indentation + text for text in texts])
 
@@ -100,18 +63,13 @@ def shifted_edit(document, line, fates, indentation):
 
 
 class Properties(unittest.TestCase):
-    def documents(self, in_order, count=400):
-        for seed in range(count):
-            rng = random.Random(seed)
-            yield rng, some_document(rng, in_order)
-
     def test_text_and_document_tell_the_same(self):
-        for _, document in self.documents(False):
+        for _, document in documents(False):
             self.assertEqual(read(write(document)), document)
             self.assertEqual(write(read(write(document))), write(document))
 
     def test_pieces_have_all_lines_of_sections(self):
-        for _, document in self.documents(False):
+        for _, document in documents(False):
             lines = sorted([at for name in piece_names(document)
                             for at in piece_lines(document, name)])
             self.assertEqual(
@@ -124,7 +82,7 @@ class Properties(unittest.TestCase):
             self.assertEqual(uses, users)
 
     def test_programs(self):
-        for _, document in self.documents(False):
+        for _, document in documents(False):
             for root in piece_names(document):
                 expected = outcome(naive_program, document, root, (), [root])
                 self.assertEqual(outcome(tangle, document, root), expected)
@@ -135,14 +93,14 @@ class Properties(unittest.TestCase):
                     self.assertEqual(outcome(closure, document, root), expected)
 
     def test_occurrences(self):
-        for _, document in self.documents(True):
+        for _, document in documents(True):
             program = tangle(document, piece_names(document)[0])
             pairs = [(at, line) for line, places in occurrences(program).items() for at in places]
             self.assertEqual(sorted(pairs), [(at, line[1]) for at, line in enumerate(program)])
 
     def test_accepted_program_edits_give_the_edited_program(self):
         accepted = 0
-        for rng, document in self.documents(True):
+        for rng, document in documents(True):
             for root in piece_names(document):
                 program = tangle(document, root)
                 texts = CODE + [" " * at + text for at in (1, 2) for text in CODE]
@@ -159,7 +117,7 @@ class Properties(unittest.TestCase):
 
     def test_accepted_woven_edits_give_the_edited_text(self):
         accepted = 0
-        for rng, document in self.documents(False):
+        for rng, document in documents(False):
             woven = weave(document)
             edits = untouched(len(woven))
             texts = PROSE + ["    " + text for text in CODE]
@@ -187,7 +145,7 @@ class Properties(unittest.TestCase):
         self.assertEqual(read(write(new)), new)
 
     def test_what_fates_do_to_a_program_is_mapped_back_to_them(self):
-        for rng, document in self.documents(True):
+        for rng, document in documents(True):
             for root in piece_names(document):
                 fates = some_fates(rng, document)
                 # A program cannot tell what stands behind references, or heads of no line.
@@ -209,7 +167,7 @@ class Properties(unittest.TestCase):
                 self.assertEqual(program_fates(document, root, edits), fates)
 
     def test_what_fates_do_to_a_woven_text_is_mapped_back_to_them(self):
-        for rng, document in self.documents(False):
+        for rng, document in documents(False):
             fates = some_fates(rng, document)
             edits = []
             for _, line in weave(document):
