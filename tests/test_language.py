@@ -24,6 +24,12 @@ MODULES = {
     "differences": ["least_edits", "cost_of"],
     "turning": ["rename", "take_out", "put_in", "split", "join", "move_section"],
     "session": ["Session"],
+    "patches": ["compose", "inverse", "join", "moved"],
+    "notation": ["write_patch", "read_patch"],
+    "positions": ["from_program", "to_program", "to_woven", "from_woven", "trace", "spans"],
+    "checks": [
+        "unknown_uses", "idle_pieces", "knots", "depths", "longest_doubles", "share",
+    ],
 }
 
 CLASSES = {

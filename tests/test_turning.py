@@ -379,6 +379,11 @@ class MoveSection(TurningTest):
         for target in [-1, -2, -12, 13, 10 ** 12]:
             with self.subTest(target):
                 self.refused(BadPlace, {}, self.document, move_section, 6, target)
+        self.refused(BadPlace, {}, read("= a\n|x\n= b"), move_section, 2, -1)
+
+    def test_target_within_a_section_though_the_lines_would_stay(self):
+        self.refused(BadPlace, {}, read("= a\n|x\n= a\n|x\n|z"), move_section, 0, 4)
+        self.refused(BadPlace, {}, read("= a\n|x\n= a\n|x\n|<b>"), move_section, 0, 4)
 
     def test_target_within_a_section(self):
         for at in [1, 6, 8, 10]:
