@@ -6,6 +6,7 @@ The seeds are fixed, so each run tries the same ones.
 import random
 
 from tests.support import DROP, KEEP
+from weft.fates import is_touched
 
 NAMES = ["a", "b", "c", "d"]
 CODE = ["", "x", " ", "  y", "= a", "|", "<b", "   z z"]
@@ -49,3 +50,17 @@ def some_row(rng, texts):
 
 def some_change(rng, texts):
     return rng.choice([KEEP, KEEP, DROP, ("text", rng.choice(texts))])
+
+
+def some_fates(rng, document):
+    """Return fates that change each line of the document that they have."""
+    fates = {}
+    for at, line in enumerate(document):
+        texts = PROSE if line[0] == "prose" else CODE
+        change = rng.choice([KEEP, DROP, ("text", rng.choice(texts))])
+        if line[0] in ("head", "use") or change == ("text", line[1]):
+            change = KEEP
+        fate = ((), change, some_row(rng, texts))
+        if is_touched(fate) and rng.random() < 0.5:
+            fates[at] = fate
+    return fates

@@ -30,6 +30,10 @@ MODULES = {
     "checks": [
         "unknown_uses", "idle_pieces", "knots", "depths", "longest_doubles", "share",
     ],
+    "building": ["roots_of", "build", "build_fates"],
+    "threeways": ["three_ways", "settle"],
+    "history": ["History"],
+    "folding": ["fold", "view_fates"],
 }
 
 CLASSES = {
@@ -37,6 +41,11 @@ CLASSES = {
         "Session": [
             "document", "program", "woven", "pieces_made", "edit_program", "edit_woven",
             "edit_both", "replace_program", "undo", "redo",
+        ],
+    },
+    "history": {
+        "History": [
+            "document", "change", "log", "blame", "program_blame", "take_back",
         ],
     },
 }

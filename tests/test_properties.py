@@ -2,7 +2,7 @@
 
 import unittest
 
-from tests.made import CODE, NAMES, PROSE, documents, some_edits, some_row
+from tests.made import CODE, NAMES, PROSE, documents, some_edits, some_fates
 from tests.support import DROP, KEEP, outcome
 from weft.errors import Missing, Ring
 from weft.fates import edited, is_touched, untouched
@@ -17,20 +17,6 @@ from weft.weaving import weave
 def some_edit(rng, texts):
     ahead, change, behind = some_edits(rng, 1, texts)[0]
     return (rng.choice([(), (), ahead]), change, behind)
-
-
-def some_fates(rng, document):
-    """Return fates that change each line of the document that they have."""
-    fates = {}
-    for at, line in enumerate(document):
-        texts = PROSE if line[0] == "prose" else CODE
-        change = rng.choice([KEEP, DROP, ("text", rng.choice(texts))])
-        if line[0] in ("head", "use") or change == ("text", line[1]):
-            change = KEEP
-        fate = ((), change, some_row(rng, texts))
-        if is_touched(fate) and rng.random() < 0.5:
-            fates[at] = fate
-    return fates
 
 
 def naive_program(document, name, path, active):

@@ -33,26 +33,54 @@ def fated(line, fate):
 
 def program_fates(document, root, edits):
     """Return the fates to which edits of the program of a root are mapped."""
-    program = tangle(document, root)
+    return fates_of_lines(document, tangle(document, root), edits)
+
+
+def fates_of_lines(document, program, edits):
+    """Return the fates to which edits of program lines are mapped."""
+    said = sayings(document, program, edits)
+    check_length(program, edits)
+    return fates_of(said)
+
+
+def sayings(document, program, edits):
+    """Return the dict from document lines to what edits of program lines say of them."""
     starts = {at: True for at in first_lines(document)}
-    # What its first occurrence says of each line of the document, and the index of that.
     said = {}
     first_at = {}
-    for at, (_, line, path) in enumerate(program):
-        if edits[at][0] != () and line not in starts:
-            raise Unfit(at, "place")
-        indentation = indent_of(document, path)
-        for text in texts_in(edits[at]):
-            check_text(at, text, indentation, "indent")
-        saying = without_margin(document[line], edits[at], indentation)
+    for at, program_line in enumerate(program):
+        saying = saying_of(document, starts, at, program_line, edits[at])
+        line = program_line[1]
         if line not in said:
             said[line] = saying
             first_at[line] = at
         elif said[line] != saying:
             raise Apart(at, first_at[line])
+    return said
+
+
+def saying_of(document, starts, at, program_line, edit):
+    """Return what the edit of the program line at an index says of its document line.
+
+    The dict starts has the first lines of all sections.
+    """
+    _, line, path = program_line
+    ahead, change, _ = edit
+    if ahead != () and line not in starts:
+        raise Unfit(at, "place")
+    # In a program that is not folded, no line comes from a reference.
+    if document[line][0] == "use" and change != KEEP:
+        raise Unfit(at, "fixed")
+    indentation = indent_of(document, path)
+    for text in texts_in(edit):
+        check_text(at, text, indentation, "indent")
+    return without_margin(document[line], edit, indentation)
+
+
+def check_length(program, edits):
+    """Check that the edited program has no more lines than a program can have."""
     if len(edited(texts_of(program), edits)) > MOST_LINES:
         raise TooLong()
-    return fates_of(said)
 
 
 def fates_of(said):
