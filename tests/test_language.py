@@ -34,6 +34,11 @@ MODULES = {
     "threeways": ["three_ways", "settle"],
     "history": ["History"],
     "folding": ["fold", "view_fates"],
+    "desk": ["Desk"],
+    "copies": ["Copy"],
+    "letters": ["write_letter", "read_letter", "deliver"],
+    "words": ["is_word", "words_of", "find_word", "word_index", "rename_word"],
+    "outline": ["outline", "outline_texts", "sizes", "report"],
 }
 
 CLASSES = {
@@ -48,6 +53,8 @@ CLASSES = {
             "document", "change", "log", "blame", "program_blame", "take_back",
         ],
     },
+    "desk": {"Desk": ["version", "document", "program", "since", "submit"]},
+    "copies": {"Copy": ["texts", "edit", "send", "take", "refused"]},
 }
 
 BUILTINS = set("""

@@ -48,10 +48,15 @@ def users_by_name(document):
     for number, (_, head, end) in enumerate(sections(document), start=1):
         for line in document[head + 1:end]:
             if line[0] == "use":
-                using = users.setdefault(line[2], [])
-                if using == [] or using[-1] != number:
-                    using.append(number)
+                add_section(users, line[2], number)
     return users
+
+
+def add_section(numbers, key, number):
+    """Add the number of a section to those of a key, once; the sections come in order."""
+    own = numbers.setdefault(key, [])
+    if own == [] or own[-1] != number:
+        own.append(number)
 
 
 def made_lines(document, numbers):
